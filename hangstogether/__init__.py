@@ -1,0 +1,1 @@
+"""Hangstogether: a weaving house."""

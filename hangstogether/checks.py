@@ -1,0 +1,60 @@
+"""Checking cloths and drafts."""
+
+from hangstogether.errors import ClothError, DraftError
+from hangstogether.kinds import ascends, is_number, is_row
+from hangstogether.limits import MAX_ENDS, MAX_PICKS, MAX_SHAFTS, MAX_TREADLES
+
+
+def check_cloth(cloth):
+    """Raise ClothError for the first reason for which a value is no cloth."""
+    reason = _fault_of_cloth(cloth)
+    if reason is not None:
+        raise ClothError(reason)
+
+
+def check_draft(draft):
+    """Raise DraftError for the first reason for which a value is no draft."""
+    reason = _fault_of_draft(draft)
+    if reason is not None:
+        raise DraftError(reason)
+
+
+def is_cloth(value):
+    """Tell whether a value is a cloth."""
+    return _fault_of_cloth(value) is None
+
+
+def is_draft(value):
+    """Tell whether a value is a draft."""
+    return _fault_of_draft(value) is None
+
+
+def _fault_of_cloth(cloth):
+    if not isinstance(cloth, tuple) or not all([isinstance(row, tuple) for row in cloth]):
+        return "form"
+    if not 1 <= len(cloth) <= MAX_PICKS:
+        return "picks"
+    ends = len(cloth[0])
+    if not 1 <= ends <= MAX_ENDS or not all([len(row) == ends for row in cloth]):
+        return "ends"
+    for row in cloth:
+        if not all([is_number(part, 0, 1) for part in row]):
+            return "crossing"
+    return None
+
+
+def _fault_of_draft(draft):
+    if not is_row(draft, 3) or not all([isinstance(part, tuple) for part in draft]):
+        return "form"
+    threading, tieup, treadling = draft
+    if not 1 <= len(threading) <= MAX_ENDS:
+        return "threading"
+    if not all([is_number(shaft, 0, MAX_SHAFTS - 1) for shaft in threading]):
+        return "threading"
+    if len(tieup) > MAX_TREADLES or not all([ascends(shafts, MAX_SHAFTS) for shafts in tieup]):
+        return "tieup"
+    if not 1 <= len(treadling) <= MAX_PICKS:
+        return "treadling"
+    if not all([ascends(treadles, len(tieup)) for treadles in treadling]):
+        return "treadling"
+    return None

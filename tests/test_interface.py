@@ -1,0 +1,48 @@
+"""The interface: each name is defined in its own file, with the arguments that are told."""
+
+import ast
+import importlib
+import pathlib
+import unittest
+
+FUNCTIONS = {
+    "checks": ("check_cloth(cloth)", "check_draft(draft)", "is_cloth(value)", "is_draft(value)"),
+    "words": ("read_cloth(text)", "read_draft(text)", "write_cloth(cloth)", "write_draft(draft)"),
+    "drafts": (
+        "woven(draft)", "tidy(draft)", "turned_draft(draft)", "needs(cloth)", "drawn(cloth)",
+        "reordered(draft, shafts, treadles)",
+    ),
+    "pressing": ("fewest_treadles(cloth)", "accept_treadles(cloth, told)"),
+    "layers": (
+        "lifted_with(cloth, threads)", "can_be_lifted(cloth, threads)", "layers(cloth)", "parted(cloth)",
+        "hangs_together(cloth)", "falls_by_sums(cloth)", "accept_together(cloth, told)",
+    ),
+    "cutting": (
+        "apart_without(cloth, gone)", "weak_threads(cloth)", "most_chains(cloth, start, end)",
+        "accept_chains(cloth, start, end, told)", "strength(cloth)", "accept_strength(cloth, told)",
+    ),
+    "floats": (
+        "floats(cloth)", "longest(cloth)", "face_of(cloth)", "interlacings(cloth)", "too_long(cloth, most)",
+    ),
+    "colours": (
+        "picture(cloth, plan)", "picture_behind(cloth, plan)", "plan_of(cloth, rows)", "tallies(cloth, rows)",
+        "nearest(cloth, rows)", "accept_plan_of(cloth, rows, told)", "accept_nearest(cloth, rows, told)",
+    ),
+    "pictures": ("weave_picture(rows, known)", "accept_picture(rows, known, told)"),
+    "contrast": ("fewest_colours(cloth, pairs)", "accept_colours(cloth, pairs, told)"),
+}
+FOLDER = pathlib.Path(__file__).parent.parent / "hangstogether"
+
+
+class InterfaceTest(unittest.TestCase):
+    def test_functions(self):
+        for module, functions in FUNCTIONS.items():
+            tree = ast.parse((FOLDER / (module + ".py")).read_text())
+            defined = {
+                f"{node.name}({ast.unparse(node.args)})" for node in tree.body if isinstance(node, ast.FunctionDef)
+            }
+            for function in functions:
+                self.assertIn(function, defined)
+            loaded = importlib.import_module("hangstogether." + module)
+            for function in functions:
+                self.assertTrue(callable(getattr(loaded, function.split("(")[0])))
