@@ -26,7 +26,7 @@ def are_chains(cloth, start, end, value):
 
 
 def _is_chain(cloth, start, end, value):
-    if not are_threads(cloth, value) or len(value) < 2:
+    if not are_threads(cloth, value) or value == ():
         return False
     return value[0] == start and value[-1] == end and climbs(cloth, value)
 

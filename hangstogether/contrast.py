@@ -37,9 +37,7 @@ def _earlier_ones(asked, shown):
 
 
 def _further_colours(earlier, row, number):
-    """Return the colours below a number by which a row of choices may be made longer."""
-    if len(row) == len(earlier):
-        return []
+    """Return the colours below a number by which a row of choices that is not whole may be made longer."""
     greatest = max(row, default=-1)
     barred = [row[place] for place in earlier[len(row)]]
     return [colour for colour in range(min(greatest + 2, number)) if colour not in barred]

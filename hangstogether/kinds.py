@@ -23,7 +23,7 @@ def begins(value, size, word):
 
 def ascends(value, below):
     """Tell whether a value is an ascending tuple of integers from 0 to below a number, each once."""
-    if not isinstance(value, tuple) or len(value) > below:
+    if not isinstance(value, tuple):
         return False
     least = 0
     for part in value:

@@ -79,6 +79,7 @@ def fewest_treadles(cloth):
     while found is None:
         number += 1
         found = _first_cover(board, number)
+    # A rectangle for each shaft is enough, so there are no more of them than shafts, and this limit holds, too.
     if number > MAX_TREADLES:
         raise TooMany("treadles")
     tieup = tuple([board.ties[choice] for choice in found])
@@ -97,6 +98,7 @@ def _first_cover(board, most):
     waiting = [((), board.whole)]
     while waiting:
         row, left = waiting.pop()
+        # No row behind this one can be among the fewest, so none is looked at, or counted, though its bound may be less.
         if board.bound(len(row), left) > most:
             continue
         if left == 0:

@@ -90,8 +90,8 @@ class Reader:
     def begin(self, name):
         """Take an opening parenthesis and this name."""
         self.take("(")
-        found, word, at = self.tokens[self.place]
-        if found != "name" or word != name:
+        _, word, at = self.tokens[self.place]
+        if word != name:
             raise TextError(at)
         self.place += 1
 

@@ -210,8 +210,22 @@ class AcceptChainsTest(WeaveTest):
         self.check(FOUR, pair, (2, (chains[0], twice), cut))
         again = (("end", 0), ("pick", 0), ("end", 1), ("pick", 1), ("end", 0), ("pick", 2), ("end", 1))
         self.check(FOUR, pair, (1, (again,), cut))
+        for some in (twice, again, (*way[:3], *chains[0]), (*way, "pick", way[-1]), (*chains[0][:2], *way)):
+            self.check(FOUR, pair, (1, (some,), cut[:1]))
+        # One chain that comes back to its start, and one that goes on behind its end.
+        back = (("end", 0), ("pick", 0), ("end", 3), ("pick", 1), ("end", 0), ("pick", 2), ("end", 1))
+        on = (("end", 0), ("pick", 0), ("end", 1), ("pick", 1), ("end", 2), ("pick", 2), ("end", 1))
+        for some in (back, on):
+            self.assertEqual(len(set(some[1:-1])), len(some[1:-1]))
+            self.assertTrue(all([is_above(FOUR, upper, lower) for lower, upper in zip(some, some[1:])]))
+            self.refuses(PaperError, "chains", accept_chains, FOUR, *pair, (1, (some,), cut[:1]))
         self.check(FOUR, pair, (1, ((pair[0],),), cut))
         self.check(FOUR, pair, (1, (pair,), cut))
+
+    def test_cut_of_more_threads_than_chains(self):
+        number, chains, cut = most_chains(FOUR, *ONE)
+        for thread in (("pick", 1), ("end", 2), ("end", 3)):
+            self.refuses(PaperError, "cut", accept_chains, FOUR, *ONE, (number, chains, (*cut, thread)))
 
     def test_cut_with_start_or_end(self):
         chains = most_chains(PLAIN, *ONE)[1]
@@ -308,6 +322,13 @@ class AcceptStrengthTest(WeaveTest):
         gone = tuple([thread for thread in threads_in(PLAIN) if thread[0] == "pick"])
         self.check(PLAIN, (2, gone, (("end", 0),), paper))
         self.refuses(PaperError, "chains", accept_strength, PLAIN, (2, gone, (("end", 0),), paper))
+
+    def test_lifted_threads_that_are_cut(self):
+        cloth = ((1, 1), (0, 0))
+        paper = strength(cloth)[3]
+        for lifted in ((("pick", 1),), (("pick", 1), ("end", 0))):
+            self.refuses(PaperError, "lifted", accept_strength, cloth, (1, (("pick", 1),), lifted, paper))
+        self.refuses(PaperError, "chains", accept_strength, cloth, (1, (("pick", 1),), (("end", 0),), paper))
 
     def test_any_values(self):
         told = strength(PLAIN)

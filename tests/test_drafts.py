@@ -64,6 +64,8 @@ class NeedsAndDrawnTest(WeaveTest):
         self.refuses(TooMany, "shafts", drawn, identity(17))
         self.assertEqual(needs(identity(24)), (24, 24))
         self.assertEqual(woven(drawn(identity(16))), identity(16))
+        self.assertEqual(drawn(((1,),) * 24), ((0,), ((0,),), ((0,),) * 24))
+        self.assertEqual(drawn(((1,) * 24,)), ((0,) * 24, ((0,),), ((0,),)))
 
     def test_no_cloth(self):
         for function in (needs, drawn):

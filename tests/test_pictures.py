@@ -216,6 +216,9 @@ class AcceptTest(AcceptBase):
         self.check(BARRED, UNKNOWN, ("chains", first, first))
         self.check(BARRED, UNKNOWN, ("chains", first[:2], second))
         self.check(BARRED, UNKNOWN, ("chains", first[:1], second))
+        # The second chain leads back to the beginning, but the first one does not end with its opposite.
+        self.check(BARRED, UNKNOWN, ("chains", first[:4], first[3:] + second[1:]))
+        self.refuses(PaperError, "ends", accept_picture, BARRED, UNKNOWN, ("chains", first[:4], first[3:] + second[1:]))
         self.check(BARRED, UNKNOWN, ("chains", first, second[::-1]))
         self.check(BARRED, UNKNOWN, ("chains", first, (*second, second[-1])))
 
