@@ -98,7 +98,7 @@ def _first_cover(board, most):
     waiting = [((), board.whole)]
     while waiting:
         row, left = waiting.pop()
-        # No row behind this one can be among the fewest, so none is looked at, or counted, though its bound may be less.
+        # No row that begins with such a one has so few rectangles: none is looked at, nor counted.
         if board.bound(len(row), left) > most:
             continue
         if left == 0:
