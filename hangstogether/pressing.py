@@ -19,20 +19,47 @@ class Board:
         self.whole = (1 << len(cells)) - 1
         # For each cell those that are not apart from it, itself among them.
         self.near = [_set_of([not _are_apart(lifts, cell, other) for other in cells]) for cell in cells]
+        # Of these for each cell those that do not stand behind it.
+        self.before = [near & ((2 << place) - 1) for place, near in enumerate(self.near)]
         self.covers = [_set_of([_is_in(cell, lifts, ties) for cell in cells]) for ties in self.ties]
 
     def bound(self, count, left):
         """Return the bound of a row of choices of so many rectangles that leaves these cells."""
         while left:
-            first = (left & -left).bit_length() - 1
-            left &= ~self.near[first]
+            left &= ~self.near[_first_of(left)]
             count += 1
         return count
+
+    def least(self, count, left):
+        """Return a number up to the bounds of the row and of all that begin with it and leave a cell.
+
+        Such a longer row can have a lesser bound than this one. But each cell that is left here is not apart from
+        a cell that does not stand behind it: from the first one that a further rectangle has, or from a found one.
+        So cells of which no two have such a cell in common need as many further rectangles and found cells.
+        """
+        rest = left
+        while rest:
+            rest &= ~self.near_to_some(self.before[_first_of(rest)] & left)
+            count += 1
+        return count
+
+    def near_to_some(self, cells):
+        """Return all cells that are not apart from one of these."""
+        found = 0
+        while cells:
+            first = _first_of(cells)
+            found |= self.near[first]
+            cells ^= 1 << first
+        return found
 
     def choices(self, left):
         """Return the numbers of the rectangles that have the first of these cells."""
         first = left & -left
         return [number for number, cover in enumerate(self.covers) if cover & first]
+
+
+def _first_of(cells):
+    return (cells & -cells).bit_length() - 1
 
 
 def _set_of(answers):
@@ -79,6 +106,8 @@ def fewest_treadles(cloth):
     while found is None:
         number += 1
         found = _first_cover(board, number)
+    if _open_rows(board, 0, board.whole, number, {}) > MAX_CHOICES:
+        raise TooMany("choices")
     # A rectangle for each shaft is enough, so there are no more of them than shafts, and this limit holds, too.
     if number > MAX_TREADLES:
         raise TooMany("treadles")
@@ -98,20 +127,37 @@ def _first_cover(board, most):
     waiting = [((), board.whole)]
     while waiting:
         row, left = waiting.pop()
-        # No row that begins with such a one has so few rectangles: none is looked at, nor counted.
         if board.bound(len(row), left) > most:
             continue
         if left == 0:
             if found is None:
                 found = row
             continue
-        # The rows behind the first one that leaves no cell are counted, too.
+        # These are among the rows that _open_rows counts, so where they are too many, no more need be counted.
         open_rows += 1
         if open_rows > MAX_CHOICES:
             raise TooMany("choices")
         for choice in reversed(board.choices(left)):
             waiting.append(((*row, choice), left & ~board.covers[choice]))
     return found
+
+
+def _open_rows(board, count, left, most, known):
+    """Return how many rows, of all that begin with one, leave a cell and have a bound up to a number.
+
+    The counting ends where they are too many. What is known for rows that leave the same cells is kept.
+    """
+    if left == 0:
+        return 0
+    if (count, left) not in known:
+        rows = 1 if board.bound(count, left) <= most else 0
+        if board.least(count, left) <= most:
+            for choice in board.choices(left):
+                rows += _open_rows(board, count + 1, left & ~board.covers[choice], most, known)
+                if rows > MAX_CHOICES:
+                    break
+        known[(count, left)] = rows
+    return known[(count, left)]
 
 
 def _paper(board, count, left, most):

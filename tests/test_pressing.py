@@ -151,26 +151,54 @@ class TooManyTest(WeaveTest):
         self.refuses(TooMany, "shafts", fewest_treadles, cloth)
         self.refuses(TooMany, "choices", fewest_treadles, block)
 
-    def count(self, cloth):
-        """Return how many rows that leave a cell have a bound up to the fewest treadles."""
+    def counts(self, cloth):
+        """Return how many rows that leave a cell have a bound up to the fewest treadles.
+
+        The second number is of those which do not begin with a row that has a greater bound.
+        """
         slow = Slow(cloth)
         number = slow.fewest()
-        rows, count = [()], 0
-        while rows:
-            row = rows.pop()
-            if slow.left(row) and slow.bound(row) <= number:
-                count += 1
-                rows.extend(slow.longer(row))
-        return count
+        kept = {}
+
+        def counts_from(row):
+            left = tuple(slow.left(row))
+            if not left or len(row) >= number:
+                return 0, 0
+            if (len(row), left) not in kept:
+                counts = [counts_from(further) for further in slow.longer(row)]
+                fits = int(slow.bound(row) <= number)
+                every = fits + sum([count for count, _ in counts])
+                kept[len(row), left] = every, fits * (1 + sum([count for _, count in counts]))
+            return kept[len(row), left]
+
+        return counts_from(())
 
     def test_just_too_many_choices(self):
         enough = read_cloth("(cloth -###--## #-###--# ###--### ######-- ##---###)")
-        self.assertEqual(self.count(enough), 400)
+        self.assertEqual(self.counts(enough), (400, 400))
         number, draft, paper = fewest_treadles(enough)
         self.assertIsNone(accept_treadles(enough, (number, draft, paper)))
         many = read_cloth("(cloth #####-## ###-##-# -##-###- ##-#-##- #--#####)")
-        self.assertEqual(self.count(many), 401)
+        self.assertEqual(self.counts(many), (401, 401))
         self.refuses(TooMany, "choices", fewest_treadles, many)
+
+    def test_rows_behind_one_with_a_greater_bound_count(self):
+        cloth = read_cloth("(cloth ##--## -#-### ##-#-# ###-#- #--###)")
+        every, first = self.counts(cloth)
+        self.assertGreater(every, 400)
+        self.assertEqual(first, 396)
+        self.refuses(TooMany, "choices", fewest_treadles, cloth)
+        # The same with few enough of them.
+        cloth = read_cloth("(cloth -##--#- ##--#-# #-##--# --#-### ###---# ###-#--)")
+        every, first = self.counts(cloth)
+        self.assertLess(first, every)
+        self.assertLessEqual(every, 400)
+        self.assertIsNone(accept_treadles(cloth, fewest_treadles(cloth)))
+
+    def test_choices_of_some_cloths(self):
+        for cloth in some_cloths(29, 60, 6):
+            too_many = self.counts(cloth)[0] > 400
+            self.assertEqual(answer_or_error(fewest_treadles, cloth) == (TooMany, "choices"), too_many)
 
     def test_accept_looks_at_any_number_of_choices(self):
         many = read_cloth("(cloth #####-## ###-##-# -##-###- ##-#-##- #--#####)")
