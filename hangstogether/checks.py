@@ -29,6 +29,15 @@ def is_draft(value):
     return _fault_of_draft(value) is None
 
 
+def are_like_cloths(value, most):
+    """Tell whether a value is a tuple of 1 to so many cloths of one size."""
+    if not isinstance(value, tuple) or not 1 <= len(value) <= most:
+        return False
+    if not all([is_cloth(part) for part in value]):
+        return False
+    return all([len(part) == len(value[0]) and len(part[0]) == len(value[0][0]) for part in value])
+
+
 def _fault_of_cloth(cloth):
     if not isinstance(cloth, tuple) or not all([isinstance(row, tuple) for row in cloth]):
         return "form"

@@ -16,9 +16,14 @@ def are_colours(value, count):
 
 def is_crossing(cloth, value):
     """Tell whether a value is a crossing of a cloth."""
+    return is_crossing_in(len(cloth), len(cloth[0]), value)
+
+
+def is_crossing_in(picks, ends, value):
+    """Tell whether a value is a crossing of a cloth with so many picks and ends."""
     if not is_row(value, 2):
         return False
-    return is_number(value[0], 0, len(cloth) - 1) and is_number(value[1], 0, len(cloth[0]) - 1)
+    return is_number(value[0], 0, picks - 1) and is_number(value[1], 0, ends - 1)
 
 
 def shown_at(cloth, crossing):

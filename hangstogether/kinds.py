@@ -38,3 +38,15 @@ def is_order(value, count):
     if not is_row(value, count) or not all([is_number(part, 0, count - 1) for part in value]):
         return False
     return len(set(value)) == count
+
+
+def divides(value, number):
+    """Tell whether a value is an integer from 1 on that divides a number."""
+    return is_integer(value) and value >= 1 and number % value == 0
+
+
+def is_table(value, sizes):
+    """Tell whether a value is a tuple of tuples of integers, so many as the sizes tell."""
+    if not is_row(value, len(sizes)):
+        return False
+    return all([is_row(row, size) and all([is_integer(part) for part in row]) for row, size in zip(value, sizes)])

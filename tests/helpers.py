@@ -4,7 +4,7 @@ import itertools
 import random
 import unittest
 
-from hangstogether.errors import WeaveError
+from hangstogether.errors import PaperError, WeaveError
 
 
 def deep(depth=99):
@@ -23,6 +23,9 @@ ODD_VALUES = (
     ("together", (("end", 0),)), ("cloth", (), ()), ("chains", (), ()), ("chains", ((), ()), ((), ())),
     (("end", 0, "a", 1), ("end", 0, "a", 0)), ("chains", (("end", 0, "a", 1),) * 2, ((None,) * 4,) * 2),
     deep(), (0,) * 20000, ((),) * 20000, ((0,),) * 10000, (("end", 0),) * 6000, tuple(range(20000)),
+    ("same", ((0, 0, 0, 0), 0, 0)), ("unlike", ((0,),), ((1,),)), ("profile", ((0,),)), ("block", 0, 0),
+    ("twill", 0), ("rows", 0), ("found", (), None), ("found", (("end", 0, 0),), ()), ("none", ()), (0, 1), (1, 1),
+    ((1, 0), (0, 1)), (((1,),), ((0,),)), (((1, 0), (0, 1)),), (((((0, 1),), 1),),), ((0,),), ((0, 10 ** 30),),
     [], [[1]], ([1],), [(1,)], ["end", 0], (["end", 0],), ("plan", [[], []]), [1, (), ()],
 )
 
@@ -35,6 +38,13 @@ class WeaveTest(unittest.TestCase):
             function(*arguments)
         self.assertIs(type(caught.exception), error)
         self.assertEqual(caught.exception.reason, reason)
+
+    def judges(self, reason, function, *arguments):
+        """Ask that a function accepts what it judges, or refuses it as a paper for a reason that is not None."""
+        if reason is None:
+            self.assertIsNone(function(*arguments))
+        else:
+            self.refuses(PaperError, reason, function, *arguments)
 
     def stands_any_values(self, function, *arguments):
         """Pass odd values in the place of each argument: nothing but an error of the program may be raised."""

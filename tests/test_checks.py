@@ -105,5 +105,5 @@ class AnyValueTest(WeaveTest):
         for function in (check_cloth, check_draft):
             self.stands_any_values(function, ((1,),))
         right = [value for value in ODD_VALUES if is_cloth(value)]
-        self.assertEqual(right, [((1,),), ((0, 0), (0, 0))])
+        self.assertEqual(right, [((1,),), ((0, 0), (0, 0)), ((1, 0), (0, 1)), ((0,),)])
         self.assertEqual([value for value in ODD_VALUES if is_draft(value)], [])

@@ -30,6 +30,27 @@ FUNCTIONS = {
     ),
     "pictures": ("weave_picture(rows, known)", "accept_picture(rows, known, told)"),
     "contrast": ("fewest_colours(cloth, pairs)", "accept_colours(cloth, pairs, told)"),
+    "turns": (
+        "reduced(cloth)", "normal(cloth)", "symmetries(cloth)", "classes(cloth)", "is_even(cloth)",
+        "turned(cloth, turn)", "compare(first, second)", "accept_compare(first, second, told)",
+    ),
+    "blocks": (
+        "blocked(profile, units)", "parted(cloth, picks, ends)", "profile_of(cloth, units)",
+        "accept_profile(cloth, units, told)", "shortest(cloth)",
+    ),
+    "doubling": (
+        "stacked(cloths)", "stitched(cloths, stitches)", "unstacked(cloth, count)", "loosest(cloth)",
+        "folded(cloth)",
+    ),
+    "families": (
+        "twill(parts, step)", "satin_steps(ends)", "satins(ends)", "satin(ends, step)", "twill_step(cloth)",
+        "accept_twill_step(cloth, told)", "family(cloth)",
+    ),
+    "counting": (
+        "piece_table(picks, ends, most)", "pieces(picks, ends, most)",
+        "accept_piece_table(picks, ends, most, table)", "up_to_moves(picks, ends)",
+    ),
+    "faults": ("faults(draft, cloth, most)", "accept_faults(draft, cloth, most, told)"),
 }
 FOLDER = pathlib.Path(__file__).parent.parent / "hangstogether"
 

@@ -23,6 +23,7 @@ BARRED = set(
     " copyright credits delattr dir eval exec exit gc getattr globals hasattr help id importlib license locals"
     " methodcaller os quit setattr super vars".split()
 )
+LIBRARY = {"gcd", "lcm", "isqrt", "comb", "perm", "factorial"}
 MODULE_LEVEL = (ast.Import, ast.ImportFrom, ast.FunctionDef, ast.ClassDef, ast.Assign, ast.Expr)
 NEVER = (
     ast.GeneratorExp, ast.Global, ast.Yield, ast.YieldFrom, ast.AsyncFunctionDef, ast.Await, ast.Div, ast.With,
@@ -81,11 +82,14 @@ class LanguageTest(unittest.TestCase):
                 self.assertNotIsInstance(node, ast.Import)
                 if isinstance(node, ast.ImportFrom):
                     self.assertIn(node, tree.body)
+                    self.assertEqual([name.asname for name in node.names], [None] * len(node.names))
+                    if node.module == "math":
+                        self.assertLessEqual({name.name for name in node.names}, LIBRARY)
+                        continue
                     self.assertRegex(node.module, r"\Ahangstogether\.[a-z]+\Z")
                     file = FOLDER / (node.module.split(".")[1] + ".py")
                     names = {name for part in ast.parse(file.read_text()).body for name in assigned_names(part)}
                     self.assertLessEqual({name.name for name in node.names}, names)
-                    self.assertEqual([name.asname for name in node.names], [None] * len(node.names))
                     graph[path.stem].append(file.stem)
         while graph:
             free = [stem for stem, needed in graph.items() if not set(needed) & set(graph)]
@@ -147,11 +151,14 @@ class LanguageTest(unittest.TestCase):
 
     def test_strings_and_numbers(self):
         for path, tree in self.trees():
-            self.assertNotRegex(path.read_text(), r"%|\\[^n\\\"]|\b(typing|dataclass|overload|contextmanager)\b")
+            self.assertNotRegex(path.read_text(), r"\\[^n\\\"]|\b(typing|dataclass|overload|contextmanager)\b")
             for node in ast.walk(tree):
                 if isinstance(node, ast.Constant):
                     self.assertNotIsInstance(node.value, (float, complex))
                     if isinstance(node.value, str):
+                        self.assertNotIn("%", node.value)
                         self.assertIsNone(re.search(r"__|\._?\Z", node.value) if "." not in node.value else None)
                 if isinstance(node, ast.BinOp):
-                    self.assertNotIsInstance(node.op, (ast.Pow, ast.Mod))
+                    self.assertNotIsInstance(node.op, ast.Pow)
+                if isinstance(node, ast.Set):
+                    self.assertNotIn(ast.Starred, [type(part) for part in node.elts])
