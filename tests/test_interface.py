@@ -51,6 +51,31 @@ FUNCTIONS = {
         "accept_piece_table(picks, ends, most, table)", "up_to_moves(picks, ends)",
     ),
     "faults": ("faults(draft, cloth, most)", "accept_faults(draft, cloth, most, told)"),
+    "yarn": (
+        "bends(cloth)", "lengths(cloth, measures)", "amounts(cloth, plan, measures, repeats)",
+        "whole_cones(length, cone)", "cone_table(rows, cones)", "wound(rows, cones)",
+        "accept_cone_table(rows, cones, table)", "costs(rows, price)",
+    ),
+    "looms": (
+        "change(first, second, prices)", "least_order(jobs, prices)", "order_table(jobs, prices)",
+        "accept_order_table(jobs, prices, table)", "cost_of_order(jobs, prices, names)",
+    ),
+    "steps": (
+        "fewest_steps(draft)", "step_table(draft)", "accept_step_table(draft, table)", "steps_of(draft, ways)",
+    ),
+    "pegs": (
+        "plan_of(draft)", "period(plan)", "joined(first, second)", "shortest(plan)", "chain_table(plan)",
+        "accept_chain_table(plan, table)", "unrolled(chain)", "size(chain)",
+    ),
+    "sums": (
+        "sums_of(cloth)", "with_sums(ends, picks)", "accept_sums(ends, picks, told)", "switched(cloth, switches)",
+        "switches_between(first, second)",
+    ),
+    "tiles": (
+        "shifted(cloth, picks, ends)", "repeats(cloth)", "least_repeat(cloth)", "lattice(cloth)",
+        "piece(cloth, pick, end, picks, ends)", "same_endless(first, second)", "found_at(cloth, pattern)",
+        "beside(first, second)", "behind(first, second)",
+    ),
 }
 FOLDER = pathlib.Path(__file__).parent.parent / "hangstogether"
 
