@@ -64,13 +64,20 @@ def parted(cloth, picks, ends):
     if not divides(ends, len(cloth[0])):
         raise ArgumentError("ends")
     blocks = _blocks_of(cloth, picks, ends)
-    places = {}
-    for row in blocks:
-        for block in row:
-            places.setdefault(block, len(places))
-    if len(places) > MAX_UNITS:
+    units = _unlike_ones(blocks)
+    if len(units) > MAX_UNITS:
         raise TooMany("units")
-    return tuple([tuple([places[block] for block in row]) for row in blocks]), tuple(places)
+    return _first_places(blocks, units), tuple(units)
+
+
+def _unlike_ones(blocks):
+    """Return the unlike blocks in the order in which they first come."""
+    return list({block: True for row in blocks for block in row})
+
+
+def _first_places(blocks, units):
+    """Return for each block the place of the first unit that fits."""
+    return tuple([tuple([units.index(block) for block in row]) for row in blocks])
 
 
 def _check_units(cloth, units):
@@ -90,7 +97,7 @@ def profile_of(cloth, units):
         for column, block in enumerate(row):
             if block not in units:
                 return "block", number, column
-    return "profile", tuple([tuple([units.index(block) for block in row]) for row in blocks])
+    return "profile", _first_places(blocks, units)
 
 
 def accept_profile(cloth, units, told):
@@ -131,5 +138,5 @@ def _divisors(number):
 
 
 def _digits(cloth, picks, ends):
-    blocks = [block for row in _blocks_of(cloth, picks, ends) for block in row]
-    return len(set(blocks)) * picks * ends + len(blocks)
+    blocks = _blocks_of(cloth, picks, ends)
+    return len(_unlike_ones(blocks)) * picks * ends + len(blocks) * len(blocks[0])

@@ -2,8 +2,8 @@
 
 from hangstogether.checks import check_cloth, check_draft
 from hangstogether.errors import ArgumentError, PaperError, TooMany
-from hangstogether.kinds import begins, is_number, is_row
-from hangstogether.limits import MAX_CHOICES, MAX_FAULTS, MAX_TREADLES
+from hangstogether.kinds import begins, is_integer, is_number, is_row
+from hangstogether.limits import MAX_CHOICES, MAX_FAULTS
 
 
 class Search:
@@ -96,14 +96,13 @@ class Search:
             return False
         kind, number, other = value
         if kind == "end":
-            if not is_number(number, 0, len(self.threading) - 1) or not is_number(other, 0, max(self.shafts)):
+            if not is_number(number, 0, len(self.threading) - 1) or not is_integer(other):
                 return False
             return value in self.changes_of_end(number)
-        if kind != "pick" or not is_number(number, 0, len(self.treadling) - 1):
+        if kind != "pick" or not is_number(number, 0, len(self.treadling) - 1) or not isinstance(other, tuple):
             return False
-        if not isinstance(other, tuple) or not all([is_number(part, 0, MAX_TREADLES - 1) for part in other]):
-            return False
-        return value in self.changes_of_pick(number)
+        # A boolean is equal to an integer, but is no treadle.
+        return all([is_integer(part) for part in other]) and value in self.changes_of_pick(number)
 
 
 def _search(draft, cloth, most):

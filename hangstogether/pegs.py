@@ -98,9 +98,7 @@ def _size(chain):
 def _shorter_ones(plan, begin, picks):
     """Return the numbers of picks of the shorter parts that make a part when they are repeated."""
     part = plan[begin:begin + picks]
-    return [
-        count for count in range(1, picks) if picks % count == 0 and part[:count] * (picks // count) == part
-    ]
+    return [count for count in range(1, picks) if part[:count] * (picks // count) == part]
 
 
 def _least_sizes(plan):

@@ -44,12 +44,16 @@ def _bars(ends, picks, many):
 def _built(ends, picks):
     needed = list(ends)
     rows = [()] * len(picks)
-    for _, pick in sorted([(-part, pick) for pick, part in enumerate(picks)]):
-        neediest = [end for _, end in sorted([(-part, end) for end, part in enumerate(needed)])]
-        given = neediest[:picks[pick]]
+    for pick in _greatest_places(picks):
+        given = _greatest_places(needed)[:picks[pick]]
         rows[pick] = tuple([1 if end in given else 0 for end in range(len(ends))])
         needed = [part - row for part, row in zip(needed, rows[pick])]
     return tuple(rows)
+
+
+def _greatest_places(parts):
+    """Return the places of some numbers, those of greater ones first, those of equal ones in order."""
+    return [place for _, place in sorted([(-part, number) for number, part in enumerate(parts)])]
 
 
 def accept_sums(ends, picks, told):

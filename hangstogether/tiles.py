@@ -31,9 +31,9 @@ def least_repeat(cloth):
 def lattice(cloth):
     """Return the ends, and the picks with the ends beside them, that make all shifts of a cloth onto itself."""
     found = repeats(cloth)
-    ends = min([ends for picks, ends in found if picks == 0 and ends > 0], default=len(cloth[0]))
-    picks, beside_them = min([shift for shift in found if shift[0] > 0], default=(len(cloth), 0))
-    return ends, picks, beside_them
+    ends = min([shift[1] for shift in found if shift[0] == 0 and shift[1] > 0], default=len(cloth[0]))
+    picks, aside = min([shift for shift in found if shift[0] > 0], default=(len(cloth), 0))
+    return ends, picks, aside
 
 
 def piece(cloth, pick, end, picks, ends):

@@ -264,6 +264,14 @@ class AcceptTest(WeaveTest):
                     self.judges(reason, accept_faults, draft, cloth, 2, told)
         self.assertGreater(right, 0)
 
+    def test_one_thread_twice(self):
+        draft = ((0, 1, 0), ((0,), (1,), (2,)), ((0,), (1,), (2,)))
+        cloth = ((1, 0, 1), (0, 0, 0), (0, 0, 0))
+        self.assertIsNone(accept_faults(draft, cloth, 2, ("found", (("pick", 1, (2,)),), ())))
+        twice = (("pick", 1, (0,)), ("pick", 1, (2,)))
+        for changes in (twice, twice[::-1], twice[1:] * 2):
+            self.judges("changes", accept_faults, draft, cloth, 2, ("found", changes, ()))
+
     def test_more_than_most(self):
         self.judges("changes", accept_faults, DRAFT, CLOTH, 0, ("found", (("end", 2, 1),), ()))
         self.judges("changes", accept_faults, DRAFT, CLOTH, 3, ("found", (), None))
