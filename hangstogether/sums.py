@@ -86,9 +86,9 @@ def _is_switch(rows, value):
 
 def _do_switch(rows, switch):
     pick, other, end, last = switch
-    for row in (rows[pick], rows[other]):
-        row[end] = 1 - row[end]
-        row[last] = 1 - row[last]
+    for number in (pick, other):
+        rows[number][end] = 1 - rows[number][end]
+        rows[number][last] = 1 - rows[number][last]
 
 
 def switched(cloth, switches):
