@@ -38,6 +38,23 @@ def are_like_cloths(value, most):
     return all([len(part) == len(value[0]) and len(part[0]) == len(value[0][0]) for part in value])
 
 
+def are_rows_of_numbers(value, most):
+    """Tell whether a value is a tuple of equally long rows of integers from 0 to this one, of the size of a cloth."""
+    if not isinstance(value, tuple) or not 1 <= len(value) <= MAX_PICKS:
+        return False
+    if not isinstance(value[0], tuple) or not 1 <= len(value[0]) <= MAX_ENDS:
+        return False
+    size = len(value[0])
+    return all([is_row(row, size) and all([is_number(part, 0, most) for part in row]) for row in value])
+
+
+def is_threading(value, shafts):
+    """Tell whether a value is a tuple of the shafts of 1 to MAX_ENDS ends, from 0 to below a number."""
+    if not isinstance(value, tuple) or not 1 <= len(value) <= MAX_ENDS:
+        return False
+    return all([is_number(part, 0, shafts - 1) for part in value])
+
+
 def _fault_of_cloth(cloth):
     if not isinstance(cloth, tuple) or not all([isinstance(row, tuple) for row in cloth]):
         return "form"
@@ -56,9 +73,7 @@ def _fault_of_draft(draft):
     if not is_row(draft, 3) or not all([isinstance(part, tuple) for part in draft]):
         return "form"
     threading, tieup, treadling = draft
-    if not 1 <= len(threading) <= MAX_ENDS:
-        return "threading"
-    if not all([is_number(shaft, 0, MAX_SHAFTS - 1) for shaft in threading]):
+    if not is_threading(threading, MAX_SHAFTS):
         return "threading"
     if len(tieup) > MAX_TREADLES or not all([ascends(shafts, MAX_SHAFTS) for shafts in tieup]):
         return "tieup"

@@ -32,6 +32,14 @@ def shown_at(cloth, crossing):
     return ("end", end) if cloth[pick][end] == 1 else ("pick", pick)
 
 
+def exchanged_at(cloth, crossings):
+    """Return a cloth with the other thread above at some crossings."""
+    rows = [list(row) for row in cloth]
+    for pick, end in crossings:
+        rows[pick][end] = 1 - rows[pick][end]
+    return tuple([tuple(row) for row in rows])
+
+
 def crossings_that_show(cloth, thread):
     """Return the crossings that show a thread, in order."""
     kind, number = thread

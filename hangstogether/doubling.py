@@ -1,7 +1,7 @@
 """Cloths that lie one above the other in one cloth."""
 
 from hangstogether.checks import are_like_cloths, check_cloth
-from hangstogether.crossings import is_crossing_in
+from hangstogether.crossings import exchanged_at, is_crossing_in
 from hangstogether.errors import ArgumentError, TooMany
 from hangstogether.kinds import divides, is_number
 from hangstogether.limits import MAX_ENDS, MAX_PICKS, MAX_STACK
@@ -48,10 +48,7 @@ def stitched(cloths, stitches):
     if not _are_stitches(cloths, stitches):
         raise ArgumentError("stitches")
     _check_size(cloths)
-    rows = [list(row) for row in _stack(cloths)]
-    for pick, end in stitches:
-        rows[pick][end] = 1 - rows[pick][end]
-    return tuple([tuple(row) for row in rows])
+    return exchanged_at(_stack(cloths), stitches)
 
 
 def _are_stitches(cloths, value):

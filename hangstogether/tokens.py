@@ -12,6 +12,16 @@ IN_WORDS = IN_NAMES + SIGNS
 LONGEST_NUMERAL = 9
 
 
+def in_parentheses(words):
+    """Return the text of words between parentheses."""
+    return "(" + " ".join(words) + ")"
+
+
+def line_of(name, parts):
+    """Return the line of a name and further words between parentheses."""
+    return in_parentheses([name, *parts]) + "\n"
+
+
 def _consists_of(word, characters):
     return all([character in characters for character in word])
 
@@ -87,13 +97,26 @@ class Reader:
         self.place += 1
         return word
 
-    def begin(self, name):
-        """Take an opening parenthesis and this name."""
+    def begin(self, *names):
+        """Take an opening parenthesis and one of these names, and return the name."""
         self.take("(")
         _, word, at = self.tokens[self.place]
-        if word != name:
+        if word not in names:
             raise TextError(at)
         self.place += 1
+        return word
+
+    def rest(self, kind, take_part):
+        """Take all parts that begin with a kind of token, by a function, and the closing parenthesis behind them."""
+        parts = []
+        while self.kind() == kind:
+            parts.append(take_part(self))
+        self.take(")")
+        return tuple(parts)
+
+    def numeral(self):
+        """Take a numeral and return its number."""
+        return int(self.take("numeral"))
 
     def finish(self):
         """Take nothing, but make sure that the text ends here."""

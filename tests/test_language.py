@@ -11,7 +11,7 @@ FOLDER = pathlib.Path(__file__).parent.parent / "hangstogether"
 FILES = sorted(path for path in FOLDER.rglob("*") if path.is_file() and "__pycache__" not in path.parts)
 BUILTINS = set(
     "len range enumerate zip min max sum abs sorted reversed int str bool list tuple dict set isinstance ord repr any"
-    " all divmod ValueError KeyError IndexError type".split()
+    " all divmod ValueError KeyError IndexError type iter".split()
 )
 METHODS = set(
     "append clear copy count endswith extend find get index insert isalnum isalpha isdigit islower isspace isupper"
@@ -27,7 +27,7 @@ LIBRARY = {"gcd", "lcm", "isqrt", "comb", "perm", "factorial"}
 MODULE_LEVEL = (ast.Import, ast.ImportFrom, ast.FunctionDef, ast.ClassDef, ast.Assign, ast.Expr)
 NEVER = (
     ast.GeneratorExp, ast.Global, ast.Yield, ast.YieldFrom, ast.AsyncFunctionDef, ast.Await, ast.Div, ast.With,
-    ast.NamedExpr, ast.Try, ast.Set,
+    ast.NamedExpr, ast.Set,
 )
 
 
@@ -106,6 +106,34 @@ class LanguageTest(unittest.TestCase):
                 if isinstance(node, ast.FunctionDef):
                     self.assertLessEqual(node.end_lineno - node.lineno + 1, 40, node.name)
 
+    def test_errors(self):
+        tree = ast.parse((FOLDER / "errors.py").read_text())
+        own = {node.name for node in tree.body if isinstance(node, ast.ClassDef)}
+        for path, tree in self.trees():
+            for node in ast.walk(tree):
+                if isinstance(node, ast.Try):
+                    self.assertEqual(node.finalbody, [])
+                    self.assertLessEqual({handler.type.id for handler in node.handlers}, own)
+                    # One call of an own function stands in it.
+                    self.assertIsInstance(node.body[0].value.func, ast.Name)
+                    self.assertEqual(len(node.body), 1)
+                if isinstance(node, ast.Raise):
+                    self.assertIn(node.exc.func.id, own - {"WeaveError"})
+
+    def test_iteration(self):
+        for path, tree in self.trees():
+            calls = [node for node in ast.walk(tree) if isinstance(node, ast.Call) and isinstance(node.func, ast.Name)]
+            steps = [node for node in calls if node.func.id == "iter"]
+            methods = [node for node in ast.walk(tree) if isinstance(node, ast.FunctionDef)]
+            for node in methods:
+                if node.name == "__iter__":
+                    self.assertEqual([type(row) for row in node.body], [ast.Return])
+                    self.assertIs(node.body[0].value, steps.pop())
+                if node.name == "__len__":
+                    self.assertEqual([type(row) for row in node.body], [ast.Return])
+                    self.assertEqual(node.body[0].value.func.id, "len")
+            self.assertEqual(steps, [])
+
     def test_names(self):
         for path, tree in self.trees():
             taken = set()
@@ -127,7 +155,7 @@ class LanguageTest(unittest.TestCase):
                     self.assertFalse(set(assigned_names(node)[1:]) & fixed, node.name)
                 for name in assigned_names(node):
                     self.assertFalse(name in dir(builtins) or name in BARRED, name)
-                    self.assertRegex(name, r"\A(_?[A-Za-z][A-Za-z0-9_]*|_|__init__)\Z")
+                    self.assertRegex(name, r"\A(_?[A-Za-z][A-Za-z0-9_]*|_|__init__|__len__|__iter__)\Z")
 
     def test_builtins_and_methods(self):
         own = {
