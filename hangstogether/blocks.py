@@ -1,21 +1,13 @@
 """Cloths that are made of blocks."""
 
-from hangstogether.checks import are_like_cloths, check_cloth
+from hangstogether.checks import are_rows_of_numbers, are_like_cloths, check_cloth
 from hangstogether.errors import ArgumentError, PaperError, TooMany
-from hangstogether.kinds import begins, divides, is_number, is_row
+from hangstogether.kinds import begins, divides, is_number
 from hangstogether.limits import MAX_ENDS, MAX_PICKS, MAX_UNITS
 
 
 def _is_profile(value):
-    if not isinstance(value, tuple) or not 1 <= len(value) <= MAX_PICKS:
-        return False
-    if not isinstance(value[0], tuple) or not 1 <= len(value[0]) <= MAX_ENDS:
-        return False
-    return all([_is_row_of_numbers(row, len(value[0])) for row in value])
-
-
-def _is_row_of_numbers(value, size):
-    return is_row(value, size) and all([is_number(part, 0, MAX_UNITS - 1) for part in value])
+    return are_rows_of_numbers(value, MAX_UNITS - 1)
 
 
 def _greatest(profile):
@@ -35,10 +27,11 @@ def blocked(profile, units):
     picks, ends = _size_of(units[0])
     if len(profile) * picks > MAX_PICKS or len(profile[0]) * ends > MAX_ENDS:
         raise TooMany("size")
-    return _joined(profile, units)
+    return joined_units(profile, units)
 
 
-def _joined(profile, units):
+def joined_units(profile, units):
+    """Return the cloth of units of one size, put where their places stand in a profile."""
     picks = range(len(units[0]))
     return tuple([
         tuple([part for number in row for part in units[number][pick]]) for row in profile for pick in picks
@@ -56,14 +49,19 @@ def _block(rows, left, ends):
     return tuple([row[left:left + ends] for row in rows])
 
 
-def parted(cloth, picks, ends):
-    """Return the profile and the units of the blocks of so many picks and ends."""
+def checked_blocks(cloth, picks, ends):
+    """Return the rows of blocks of so many picks and ends, and raise an error unless they part a cloth."""
     check_cloth(cloth)
     if not divides(picks, len(cloth)):
         raise ArgumentError("picks")
     if not divides(ends, len(cloth[0])):
         raise ArgumentError("ends")
-    blocks = _blocks_of(cloth, picks, ends)
+    return _blocks_of(cloth, picks, ends)
+
+
+def parted(cloth, picks, ends):
+    """Return the profile and the units of the blocks of so many picks and ends."""
+    blocks = checked_blocks(cloth, picks, ends)
     units = _unlike_ones(blocks)
     if len(units) > MAX_UNITS:
         raise TooMany("units")
@@ -116,7 +114,7 @@ def accept_profile(cloth, units, told):
 def _gives(profile, units, cloth):
     if not _is_profile(profile) or _greatest(profile) >= len(units):
         return False
-    return _joined(profile, units) == cloth
+    return joined_units(profile, units) == cloth
 
 
 def _is_no_unit(cloth, units, number, column):

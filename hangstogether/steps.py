@@ -3,6 +3,7 @@
 from hangstogether.checks import check_draft
 from hangstogether.errors import ArgumentError, PaperError
 from hangstogether.kinds import is_integer, is_row, is_table
+from hangstogether.onward import least_choices, onward_table
 
 _ON_NOTHING = (None, None)
 
@@ -30,27 +31,13 @@ def _steps_between(before, way):
 
 def step_table(draft):
     """Return for each pick and each way to stand for it the fewest steps from the next pick on."""
-    return _table_of(_ways_for(draft))
-
-
-def _table_of(ways):
-    rows = [tuple([0 for _ in ways[-1]])]
-    for here, behind in reversed(list(zip(ways, ways[1:]))):
-        costs = list(zip(behind, rows[-1]))
-        rows.append(tuple([min([_steps_between(way, further) + cost for further, cost in costs]) for way in here]))
-    return tuple(rows[::-1])
+    return onward_table(_ways_for(draft), _steps_between)
 
 
 def fewest_steps(draft):
     """Return the fewest steps for the picks of a draft, and ways to stand that take so many."""
     ways = _ways_for(draft)
-    table = _table_of(ways)
-    stood = _ON_NOTHING
-    taken = []
-    for here, row in zip(ways, table):
-        found = [_steps_between(stood, way) + cost for way, cost in zip(here, row)]
-        stood = here[found.index(min(found))]
-        taken.append(stood)
+    taken = least_choices(ways, onward_table(ways, _steps_between), _ON_NOTHING, _steps_between)
     return _steps_in(taken), tuple(taken)
 
 
@@ -78,5 +65,5 @@ def accept_step_table(draft, table):
     ways = _ways_for(draft)
     if not is_table(table, [len(here) for here in ways]):
         raise PaperError("form")
-    if table != _table_of(ways):
+    if table != onward_table(ways, _steps_between):
         raise PaperError("entry")

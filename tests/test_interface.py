@@ -76,6 +76,52 @@ FUNCTIONS = {
         "piece(cloth, pick, end, picks, ends)", "same_endless(first, second)", "found_at(cloth, pattern)",
         "beside(first, second)", "behind(first, second)",
     ),
+    "weaving": ("rewoven(draft, log)",),
+    "nearest": (
+        "nearest(cloth, shafts)", "near_table(cloth, shafts)", "accept_near_table(cloth, shafts, table)",
+        "unlike_crossings(first, second)",
+    ),
+    "rethreading": ("rethread(now, wanted, shafts)", "accept_rethread(now, wanted, shafts, told)"),
+    "tablets": (
+        "band(cards, turns)", "twist(cards, turns)", "untwisting(cards, turns)", "turns_for(cards, picture)",
+        "turn_table(cards, picture)", "accept_turn_table(cards, picture, table)",
+    ),
+    "stitching": ("fewest_stitches(cloth, most)", "accept_stitches(cloth, most, told)", "least_needed(cloth)"),
+    "holders": (
+        "fewest_loads(colours, holders)", "load_table(colours, holders)",
+        "accept_load_table(colours, holders, table)", "by_rule(colours, holders)",
+        "loads_of(colours, holders, held)",
+    ),
+    "shuttles": (
+        "throws_for(boxes, places, throws)", "throw_table(boxes, places, throws)",
+        "accept_throw_table(boxes, places, throws, table)", "moves_of(boxes, places, throws, free)",
+    ),
+    "edges": (
+        "best_starts(cloth, wefts)", "accept_starts(cloth, wefts, told)", "loose_turns(cloth, wefts, starts)",
+        "with_floating(cloth, wefts, starts)", "joins(wefts)",
+    ),
+    "papers": (
+        "write_answer(told)", "write_strength(told)", "read_answer(text)", "read_strength(text)", "is_answer(text)",
+    ),
+    "shades": (
+        "units(ends, step)", "shades_of(rows, ends)", "carried(rows, ends)", "shaded(shades, ends, step)",
+        "measured(cloth, picks, ends)",
+    ),
+    "draws": (
+        "fewest_runs(threading, shafts)", "run_table(threading, shafts)",
+        "accept_run_table(threading, shafts, table)", "threaded(runs, shafts)",
+    ),
+}
+CLASSES = {
+    "system": {"Session": (
+        "__init__(self)", "__len__(self)", "__iter__(self)", "load_cloth(self, name, text)",
+        "load_draft(self, name, text)", "answer(self, line)",
+    )},
+    "weaving": {"Loom": (
+        "__init__(self, draft)", "weave(self, picks)", "undo(self, picks)", "snap(self, end)", "mend(self, end, shaft)",
+        "stick(self, shaft, above)", "free(self, shaft)", "cut(self)", "woven(self)", "pieces(self)",
+        "threading(self)", "faults(self)", "log(self)",
+    )},
 }
 FOLDER = pathlib.Path(__file__).parent.parent / "hangstogether"
 
@@ -92,3 +138,15 @@ class InterfaceTest(unittest.TestCase):
             loaded = importlib.import_module("hangstogether." + module)
             for function in functions:
                 self.assertTrue(callable(getattr(loaded, function.split("(")[0])))
+
+    def test_classes(self):
+        for module, classes in CLASSES.items():
+            tree = ast.parse((FOLDER / (module + ".py")).read_text())
+            nodes = {node.name: node for node in tree.body if isinstance(node, ast.ClassDef)}
+            for name, methods in classes.items():
+                defined = {
+                    f"{node.name}({ast.unparse(node.args)})"
+                    for node in nodes[name].body if isinstance(node, ast.FunctionDef)
+                }
+                self.assertLessEqual(set(methods), defined)
+                self.assertTrue(callable(getattr(importlib.import_module("hangstogether." + module), name)))
